@@ -1,0 +1,1 @@
+"""Fairarcs: exact answers about arcs of dark and light beads on a ring."""

@@ -1,0 +1,110 @@
+"""Values and helpers that several tests use."""
+
+import inspect
+import itertools
+import sys
+
+# 24 runs; the counts have 32 digits and no common pattern.
+LARGE = tuple(("DL"[k % 2], 10 ** 31 + 7 ** (k + 3)) for k in range(24))
+HUGE = 10 ** 30
+
+NOT_INTEGERS = [True, False, None, "", "0", "1", b"1", 0.0, 1.0, 1.5, 1j, (), (0,), (1,), [], [1], {}, {1: 1},
+                {1}, frozenset(), range(2), int, object(), float("nan"), float("inf")]
+
+
+def nested(depth, inner):
+    for _ in range(depth):
+        inner = (inner,)
+    return inner
+
+
+NOT_STRANDS = [
+    # other values than tuples
+    None, True, False, 0, 1, -1, 1.5, "", "D", "D1", "D1 L2", b"D", [], {}, set(), frozenset(), range(3), tuple,
+    object(), float("nan"), {"D": 1}, {("D", 1)}, {("D", 1): ("L", 1)},
+    # the empty tuple, and a run in place of a strand
+    (), ("D", 1), ("D",), ("D", "L"), ("D1", "L2"),
+    # lists in place of tuples
+    [("D", 1)], [["D", 1]], (["D", 1],), (("D", 1), ["L", 1]), [("D", 1), ("L", 1)],
+    # runs of other kinds
+    (None,), (1,), ("DL",), ((),), (("D", 1), None), (("D", 1), ()), (("D", 1), "L1"), (("D", 1), "L"),
+    ({"D": 1},), ({"D", 1},), (range(2),),
+    # runs that are too short or too long
+    (("D",),), ((1,),), (("D", 1, 1),), (("D", 1, "L", 1),), (("D", 1), ("L",)), (("D", 1), ("L", 2, 3)),
+    (("D", 1, None), ("L", 2)),
+    # other colours
+    (("d", 1),), (("l", 1),), (("", 1),), (("DL", 1),), (("DD", 1),), (("B", 1),), ((b"D", 1),), ((68, 1),),
+    ((0, 1),), ((True, 1),), ((None, 1),), ((("D",), 1),), ((["D"], 1),), ((1, "D"),), (("D", 1), ("l", 1)),
+    (("D ", 1),), ((object(), 1),), (({}, 1),), ((float("nan"), 1),),
+    # counts that are not integers from 1 on
+    (("D", 0),), (("D", -1),), (("D", -HUGE),), (("D", True),), (("D", False),), (("D", None),), (("D", 1.0),),
+    (("D", 2.5),), (("D", "1"),), (("D", "D"),), (("D", (1,)),), (("D", [1]),), (("D", {}),), (("D", 1j),),
+    (("D", float("inf")),), (("D", 1), ("L", 0)), (("D", 1), ("L", True)), (("D", 1), ("L", 1), ("D", 0)),
+    (("D", 0), ("L", 1)), (("D", False), ("L", 1)), (("D", b"1"),),
+    # neighbouring runs of one colour
+    (("D", 1), ("D", 1)), (("L", 2), ("L", 3)), (("D", 1), ("L", 1), ("L", 1)), (("L", 1), ("L", 1), ("D", 1)),
+    (("D", 1), ("L", 2), ("D", 3), ("D", 4)),
+    # nested deeper
+    ((("D", 1),),), ((("D", 1), ("L", 1)),), (("D", 1), (("L", 1),)), nested(40, 1), nested(38, ("D", 1)),
+    ((nested(36, "D"), 1),), (("D", nested(36, 1)),),
+    # long ones with one fault
+    (("D", 1), ("L", 1)) * 2000 + (("L", 1),), (("D", 1), ("L", 1)) * 2000 + (("D", 0),),
+    (("D", 1),) + (("D", 1), ("L", 1)) * 2000, (("D", 1), ("L", 1)) * 2000 + (None,), (None,) * 4000,
+]
+
+
+def small_strands(runs, greatest):
+    """All strands of at most so many runs with counts of at most greatest."""
+    for many in range(1, runs + 1):
+        for counts in itertools.product(range(1, greatest + 1), repeat=many):
+            for colours in ("DL" * many, "LD" * many):
+                yield tuple(zip(colours, counts))
+
+
+def plain(strand):
+    """The list of the beads of a small strand."""
+    return [colour for colour, count in strand for _ in range(count)]
+
+
+def plain_arc(strand, start, length):
+    """The list of the beads of an arc of a small ring."""
+    beads = plain(strand)
+    return [beads[(start + k) % len(beads)] for k in range(length)]
+
+
+def within_steps(limit, function, *args):
+    """Call a function, but stop it if it executes more lines than limit."""
+    left = [limit]
+
+    def watch(frame, event, arg):
+        left[0] -= 1
+        if left[0] < 0:
+            raise AssertionError("more than " + str(limit) + " steps")
+        return watch
+
+    before = sys.gettrace()
+    sys.settrace(watch)
+    try:
+        return function(*args)
+    finally:
+        sys.settrace(before)
+
+
+def outcome(function, *args, **named):
+    """What a call returns (a generator: its values), or the class of its error."""
+    try:
+        answer = function(*args, **named)
+        return list(answer) if inspect.isgenerator(answer) else answer
+    except ValueError as error:
+        return error.__class__
+
+
+def check_ways_to_pass(case, function, names, args):
+    """Check that each argument can be passed by position and by its name."""
+    expected = outcome(function, *args)
+    case.assertEqual(list(inspect.signature(function).parameters), list(names))
+    for many in range(len(args) + 1):
+        named = dict(zip(names[many:], args[many:]))
+        case.assertEqual(outcome(function, *args[:many], **named), expected)
+        turned = dict(reversed(list(named.items())))
+        case.assertEqual(outcome(function, *args[:many], **turned), expected)

@@ -1,6 +1,6 @@
 """Arcs: neighbouring beads of a ring, from a start on around it."""
 
-from fairarcs.errors import InvalidLength
+from fairarcs.errors import InvalidDark, InvalidLength
 from fairarcs.integers import is_integer_within
 from fairarcs.strands import require_place, require_strand, runs_between, total_beads, total_dark
 
@@ -9,6 +9,12 @@ def require_length(value, beads):
     """Raise InvalidLength if a value is not an integer from 0 to beads."""
     if not is_integer_within(value, 0, beads):
         raise InvalidLength("the length is not an integer from 0 to the number of beads")
+
+
+def require_dark(value, greatest):
+    """Raise InvalidDark if a value is not an integer from 0 to greatest."""
+    if not is_integer_within(value, 0, greatest):
+        raise InvalidDark("the number of dark beads is not an integer from 0 to the greatest possible one")
 
 
 def require_arc(ring, start, length):

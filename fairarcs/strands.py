@@ -51,17 +51,26 @@ def total_dark(runs):
     return sum([count for colour, count in runs if colour == DARK])
 
 
-def runs_between(runs, start, end):
-    """Return the list of the runs of the beads start to end - 1."""
+def cut_between(rows, start, end):
+    """Return what lies at the places start to end - 1 of some rows (label, count), one behind the other.
+
+    It is a list of (label, offset, count): of the row with this label so many
+    places, from the one with the index offset in this row on.
+    """
     found = []
     begin = 0
-    for colour, count in runs:
+    for label, count in rows:
         low = max(start, begin)
         high = min(end, begin + count)
         if low < high:
-            found.append((colour, high - low))
+            found.append((label, low - begin, high - low))
         begin += count
     return found
+
+
+def runs_between(runs, start, end):
+    """Return the list of the runs of the beads start to end - 1."""
+    return [(colour, count) for colour, _, count in cut_between(runs, start, end)]
 
 
 def count_beads(strand):

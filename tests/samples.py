@@ -4,6 +4,8 @@ import inspect
 import itertools
 import sys
 
+from fairarcs.errors import BeadError
+
 # 24 runs; the counts have 32 digits and no common pattern.
 LARGE = tuple(("DL"[k % 2], 10 ** 31 + 7 ** (k + 3)) for k in range(24))
 HUGE = 10 ** 30
@@ -72,6 +74,35 @@ def plain_arc(strand, start, length):
     return [beads[(start + k) % len(beads)] for k in range(length)]
 
 
+def all_rings(greatest):
+    """All rings of at most so many beads."""
+    for many in range(1, greatest + 1):
+        for beads in itertools.product("DL", repeat=many):
+            yield as_strand(beads)
+
+
+def as_strand(beads):
+    """The strand of some beads."""
+    return tuple((colour, len(list(run))) for colour, run in itertools.groupby(beads))
+
+
+def scaled(ring, factor):
+    """The ring with so many beads in place of each one."""
+    return tuple((colour, count * factor) for colour, count in ring)
+
+
+def dark_table(ring):
+    """For each length the list of d(start, length) of all places, counted bead by bead."""
+    beads = plain(ring)
+    return [[sum(beads[(start + k) % len(beads)] == "D" for k in range(length)) for start in range(len(beads))]
+            for length in range(len(beads) + 1)]
+
+
+def some(values, many):
+    """The first values of a generator."""
+    return list(itertools.islice(values, many))
+
+
 def within_steps(limit, function, *args):
     """Call a function, but stop it if it executes more lines than limit."""
     left = [limit]
@@ -108,3 +139,23 @@ def check_ways_to_pass(case, function, names, args):
         case.assertEqual(outcome(function, *args[:many], **named), expected)
         turned = dict(reversed(list(named.items())))
         case.assertEqual(outcome(function, *args[:many], **turned), expected)
+
+
+def check_error(case, error, function, *args):
+    """Check the exact class of the error of a call (a generator is asked for its first value), and return the error."""
+    with case.assertRaises(BeadError, msg=args) as caught:
+        answer = function(*args)
+        if inspect.isgenerator(answer):
+            next(answer)
+    case.assertIs(caught.exception.__class__, error, args)
+    case.assertIsInstance(caught.exception, ValueError)
+    return caught.exception
+
+
+def check_errors(case, function, good, wrong, errors):
+    """Check the error of each wrong value of each argument, also if all arguments behind it are wrong, too."""
+    for k, values in enumerate(wrong):
+        for value in values:
+            check_error(case, errors[k], function, *good[:k], value, *good[k + 1:])
+            behind = [others[0] for others in wrong[k + 1:]]
+            check_error(case, errors[k], function, *good[:k], value, *behind)

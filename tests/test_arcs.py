@@ -1,14 +1,13 @@
 """Points [5] and [8], and [1] to [3] for the functions of arcs."""
 
 import inspect
-import itertools
 import unittest
 
 from fairarcs import arcs
 from fairarcs.arcs import beads_of, dark_in, other_arc
 from fairarcs.errors import BeadError, InvalidLength, InvalidPlace, InvalidStrand
 from samples import (HUGE, LARGE, NOT_INTEGERS, NOT_STRANDS, check_ways_to_pass, plain, plain_arc, small_strands,
-                     within_steps)
+                     some, within_steps)
 
 NAMES = ("dark_in", "other_arc", "beads_of")
 RING = (("D", 2), ("L", 3), ("D", 1))
@@ -16,10 +15,6 @@ RING = (("D", 2), ("L", 3), ("D", 1))
 
 def first_bead(*args):
     return next(beads_of(*args))
-
-
-def some(beads, many):
-    return list(itertools.islice(beads, many))
 
 
 class SmallRings(unittest.TestCase):

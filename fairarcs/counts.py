@@ -1,10 +1,10 @@
 """Counts: the places of the arcs with a given length and number of dark beads."""
 
 from fairarcs.arcs import require_length
-from fairarcs.errors import InvalidDark, InvalidIndex
-from fairarcs.integers import is_integer, is_integer_within
-from fairarcs.pieces import stretches_with
-from fairarcs.strands import cut_between, require_strand, total_beads
+from fairarcs.errors import InvalidDark
+from fairarcs.integers import is_integer
+from fairarcs.pieces import nth_place, stretches_with, total_places
+from fairarcs.strands import require_strand, total_beads
 
 
 def asked_stretches(ring, length, dark):
@@ -16,11 +16,6 @@ def asked_stretches(ring, length, dark):
     return stretches_with(ring, length, dark)
 
 
-def total_places(stretches):
-    """Return the number of places of some stretches."""
-    return sum([count for _, count in stretches])
-
-
 def count_arcs(ring, length, dark):
     """Return the number of places from which an arc of a length has so many dark beads."""
     return total_places(asked_stretches(ring, length, dark))
@@ -28,11 +23,7 @@ def count_arcs(ring, length, dark):
 
 def nth_arc(ring, length, dark, index):
     """Return the place with this index, from 0, of those that count_arcs counts."""
-    stretches = asked_stretches(ring, length, dark)
-    if not is_integer_within(index, 0, total_places(stretches) - 1):
-        raise InvalidIndex("the index is not that of an arc with these numbers")
-    first, offset, _ = cut_between(stretches, index, index + 1)[0]
-    return first + offset
+    return nth_place(asked_stretches(ring, length, dark), index)
 
 
 def starts(ring, length, dark):

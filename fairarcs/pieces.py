@@ -9,7 +9,9 @@ neighbouring runs may have the same colour.
 """
 
 from fairarcs.arcs import arc_runs
-from fairarcs.strands import DARK, total_beads, total_dark
+from fairarcs.errors import InvalidIndex
+from fairarcs.integers import is_integer_within
+from fairarcs.strands import DARK, cut_between, total_beads, total_dark
 
 
 def side_by_side(runs, others):
@@ -68,3 +70,16 @@ def least_start(runs, length, dark):
     """Return the least place of an arc with these numbers; there must be one."""
     first, _ = stretches_with(runs, length, dark)[0]
     return first
+
+
+def total_places(stretches):
+    """Return the number of places of some stretches."""
+    return sum([count for _, count in stretches])
+
+
+def nth_place(stretches, index):
+    """Return the place with this index, from 0, among those of ascending stretches."""
+    if not is_integer_within(index, 0, total_places(stretches) - 1):
+        raise InvalidIndex("the index is not that of a possible place")
+    first, offset, _ = cut_between(stretches, index, index + 1)[0]
+    return first + offset

@@ -73,6 +73,22 @@ def runs_between(runs, start, end):
     return [(colour, count) for colour, _, count in cut_between(runs, start, end)]
 
 
+def strand_of(runs):
+    """Return the strand of the beads of some runs; counts may be 0, and neighbours may have the same colour."""
+    found = []
+    for colour, count in runs:
+        if count > 0 and len(found) > 0 and found[-1][0] == colour:
+            found[-1] = (colour, found[-1][1] + count)
+        elif count > 0:
+            found.append((colour, count))
+    return tuple(found)
+
+
+def exchanged(runs):
+    """Return the list of some runs with all colours exchanged."""
+    return [(LIGHT if colour == DARK else DARK, count) for colour, count in runs]
+
+
 def count_beads(strand):
     """Return the number of beads."""
     require_strand(strand)

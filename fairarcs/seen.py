@@ -9,8 +9,8 @@ sum of a way of bounds, and there is no such row if a closed way has a
 negative sum.
 """
 
-from fairarcs.errors import Contradiction, InvalidNumber, InvalidSight, InvalidSights, InvalidStretch
-from fairarcs.integers import is_integer, is_integer_within
+from fairarcs.errors import Contradiction, InvalidSight, InvalidSights, InvalidStretch
+from fairarcs.integers import is_integer, is_integer_within, require_number
 from fairarcs.strands import DARK, LIGHT, exchanged, strand_of
 
 
@@ -29,15 +29,9 @@ def is_sight_of(value, beads):
     return is_sight(value) and value[1] <= beads
 
 
-def require_beads(value):
-    """Raise InvalidNumber if a value is not an integer from 1 on."""
-    if not is_integer(value) or value < 1:
-        raise InvalidNumber("the number of beads is not an integer from 1 on")
-
-
 def require_sights(beads, sights):
     """Raise the error of the first argument that is wrong."""
-    require_beads(beads)
+    require_number(beads, 1)
     if not isinstance(sights, list) or not all([is_sight_of(sight, beads) for sight in sights]):
         raise InvalidSights("the sights are not a list of tuples (start, end, dark) for so many beads")
 
@@ -145,7 +139,7 @@ def earliest_runs(beads, sights):
 
 def fits(beads, *sights):
     """Return whether some row has so many beads and the dark numbers of all sights."""
-    require_beads(beads)
+    require_number(beads, 1)
     for sight in sights:
         if not is_sight_of(sight, beads):
             raise InvalidSight("a sight is not a tuple (start, end, dark) for so many beads")

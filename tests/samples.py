@@ -55,6 +55,24 @@ NOT_STRANDS = [
 ]
 
 
+NO_TEXTS = [None, True, False, 0, 1, 12, 1.5, b"", b"D1", b"D12 L3", b"0-3:1", (), ("D1",), (("D", 1),), [], ["D1"],
+            ["0-3:1"], [(0, 3, 1)], {}, {"D1": 1}, {"D1"}, frozenset(), range(3), str, object(), bytearray(b"D1")]
+# Digits of other scripts, and signs that look like digits.
+ANY_DIGITS = ["\u0661", "\u0967", "\uff11", "\u00b2", "\u2460", "\u00bd"]
+NOT_STRAND_TEXTS = [
+    "", " ", "  ", "D", "L", "1", "12", "D ", " D1", "D1 ", "D1  L2", "D1 L2 ", " D1 L2", "D1\tL2", "D1\nL2", "D1\n",
+    "\nD1", "D1,L2", "D1, L2", "D1L2", "D1 2", "D1 L", "D L2", "D1 L2 D", "D1 L2 3", "D 1", "D1 L 2",
+    "d1", "l1", "d1 L2", "D1 l2", "B1", "A1", "X3", "DL1", "LD2", "DD1", "D1D", "1D", "D1 2L",
+    "D0", "L0", "D00", "D1 L0", "D0 L1", "D01", "D1 L02", "D007", "D0x1", "D0b1", "D1_000", "D1e3", "D1.0", "D1.",
+    "D.5", "D1,000", "D+1", "D-1", "D1-", "D--1", "D- 1", "D1 L-2", "D+1 L2", "D(1)", "D'1'", '"D1"', "('D', 1)",
+    "((\"D\", 1),)", "D1:2", "D=1", "D:1", "D1/L2", "D1|L2", "D1;L2", "0-3:1", "DNone", "DTrue", "Dinf", "Dnan",
+    "D1 D1", "L2 L2", "D1 L2 L3", "D1 D2 L3", "D1 L2 D3 D4", "D1 L1 " * 300, ("D1 L1 " * 300)[:-1] + " L1",
+    ("D1 L1 " * 500)[:-1] + " ", ("D1 L1 " * 500)[:-2], "D" * 3000, "1" * 3000, " " * 3000, "D0" + "1" * 2998,
+    "D" + "0" * 2999, "D1" + " L2" * 999, "D" + "1" * 2998 + "x", "x" * 3000, "D" + "0" * 9999, "D" + "1" * 9999 + "x",
+    "D1\u00a0L2", "D\x001", "D1\x00", "\ufeffD1", "\u0414\u0031", "D1\u2028L2", "\u039b1"]
+NOT_STRAND_TEXTS += ["D" + digit for digit in ANY_DIGITS] + ["D1" + digit for digit in ANY_DIGITS]
+
+
 def small_strands(runs, greatest):
     """All strands of at most so many runs with counts of at most greatest."""
     for many in range(1, runs + 1):
@@ -96,6 +114,14 @@ def dark_table(ring):
     beads = plain(ring)
     return [[sum(beads[(start + k) % len(beads)] == "D" for k in range(length)) for start in range(len(beads))]
             for length in range(len(beads) + 1)]
+
+
+def some_places(ring):
+    """Some places of a ring: where runs begin, beside these, and others."""
+    beads = sum(count for _, count in ring)
+    begins = [0] + list(itertools.accumulate(count for _, count in ring))
+    near = [begin + k for begin in begins for k in (-1, 0, 1)] + [beads // 2, beads // 3, beads - 7]
+    return sorted({place for place in near if 0 <= place < beads})
 
 
 def some(values, many):

@@ -19,6 +19,10 @@ BUILTINS = """len range enumerate zip min max sum abs sorted reversed int str bo
 DECORATORS = ("property", "staticmethod", "classmethod")
 BARRED = """mro elements open input law version_info with_traceback add_note register typing enum Enum Generic
     Protocol ABC namedtuple dataclass overload contextmanager eval exec globals locals vars dir id""".split()
+WORDS_BARRED = """type typing typing_extensions enum Enum IntEnum StrEnum Flag IntFlag Generic Protocol ABC ABCMeta
+    namedtuple NamedTuple TypedDict TYPE_CHECKING abstractmethod dataclass overload contextmanager""".split()
+OWN_METHODS = ("__init__", "__eq__", "__repr__", "__str__", "__len__", "__enter__", "__exit__", "__call__", "__iter__")
+ITERATORS = "list tuple dict sorted sum min max any all enumerate zip".split()
 STATEMENTS_BARRED = (ast.AsyncFunctionDef, ast.AsyncFor, ast.AsyncWith, ast.Await, ast.Global, ast.Import, ast.Div)
 
 
@@ -41,6 +45,17 @@ def docstrings(tree):
     owners = (ast.Module, ast.ClassDef, ast.FunctionDef)
     return [node.body[0].value for node in ast.walk(tree)
             if isinstance(node, owners) and node.body and ast.get_docstring(node) is not None]
+
+
+def parents(tree):
+    """For each node of a tree the one in which it stands."""
+    return {child: node for node in ast.walk(tree) for child in ast.iter_child_nodes(node)}
+
+
+def generators():
+    """The names of all functions and methods that yield."""
+    return {node.name for _, _, tree in sources() for node in ast.walk(tree) if isinstance(node, ast.FunctionDef)
+            and any(isinstance(inner, (ast.Yield, ast.YieldFrom)) for inner in ast.walk(node))}
 
 
 class Rules(unittest.TestCase):
@@ -112,6 +127,51 @@ class Rules(unittest.TestCase):
                     name = node.id
                 self.assertNotIn(name, taken, path)
                 self.assertFalse(name is not None and hasattr(builtins, name), (path, name))
+
+    def test_l5_l18_and_l28_classes(self):
+        for path, _, tree in sources():
+            for node in ast.walk(tree):
+                if not isinstance(node, ast.ClassDef):
+                    continue
+                methods = [inner for inner in node.body if isinstance(inner, ast.FunctionDef)]
+                names = [method.name for method in methods]
+                self.assertEqual(len(names), len(set(names)), (path, node.name))
+                self.assertEqual(node.decorator_list, [], (path, node.name))
+                for inner in ast.walk(node):
+                    if isinstance(inner, ast.Attribute) and isinstance(inner.ctx, ast.Store):
+                        self.assertNotIn(inner.attr, names, (path, node.name))
+                for method in methods:
+                    if method.name.startswith("__"):
+                        self.assertIn(method.name, OWN_METHODS, (path, node.name))
+                    if method.name == "__len__":
+                        returned = method.body[-1].value
+                        self.assertTrue(isinstance(returned, ast.Call) and returned.func.id == "len", path)
+
+    def test_l17_and_l27_words_in_strings(self):
+        for path, _, tree in sources():
+            texts = docstrings(tree)
+            for node in ast.walk(tree):
+                if isinstance(node, ast.Constant) and isinstance(node.value, str) and node not in texts:
+                    for word in WORDS_BARRED:
+                        self.assertNotIn(word, node.value.split(), (path, node.lineno))
+                    self.assertNotIn("__", node.value, (path, node.lineno))
+
+    def test_l23_generators_are_iterated_at_once(self):
+        names = generators()
+        self.assertIn("starts", names)
+        for path, _, tree in sources():
+            above = parents(tree)
+            for node in ast.walk(tree):
+                if isinstance(node, ast.FunctionDef) and node.name in names:
+                    self.assertTrue(any(isinstance(inner, (ast.Yield, ast.YieldFrom)) for inner in ast.walk(node)))
+                if not isinstance(node, ast.Call):
+                    continue
+                called = getattr(node.func, "id", getattr(node.func, "attr", None))
+                if called in names:
+                    user = above[node]
+                    at_once = isinstance(user, (ast.For, ast.comprehension, ast.YieldFrom))
+                    at_once = at_once or isinstance(user, ast.Call) and user.func.id in ITERATORS
+                    self.assertTrue(at_once, (path, node.lineno))
 
 
 if __name__ == "__main__":
